@@ -117,6 +117,30 @@ func wantEnded(t *testing.T, s *seriate.Store, h int) {
 	wantWrite(t, s, h, api.ErrHandle, put("a", "1"))
 	wantCommit(t, s, h, api.ErrHandle)
 	wantAbort(t, s, h, api.ErrHandle)
+	if x, e := s.Look(h); x != (api.Txn{}) || e != api.ErrHandle {
+		t.Fatalf("Look(%d) = %+v, %d, want ErrHandle alone", h, x, e)
+	}
+}
+
+func wantLook(t *testing.T, s *seriate.Store, h int, want api.Txn) {
+	t.Helper()
+	if x, e := s.Look(h); x != want || e != api.OK {
+		t.Fatalf("Look(%d) = %+v, %d, want %+v", h, x, e, want)
+	}
+}
+
+func wantMarks(t *testing.T, s *seriate.Store, h int, in bool, out bool) {
+	t.Helper()
+	if x, e := s.Look(h); x.In != in || x.Out != out || e != api.OK {
+		t.Fatalf("Look(%d) = %+v, %d, want In %v, Out %v", h, x, e, in, out)
+	}
+}
+
+func wantTold(t *testing.T, s *seriate.Store, want api.Counts) {
+	t.Helper()
+	if c := s.Told(); c != want {
+		t.Fatalf("Told = %+v, want %+v", c, want)
+	}
 }
 
 func put(key string, value string) api.Change {

@@ -101,6 +101,13 @@ func TestCallsAreUnderOneMutex(t *testing.T) {
 				if v, there, e := s.Get(h, key); v != key || !there || e != api.OK {
 					t.Errorf("Get = %q, %v, %d", v, there, e)
 				}
+				if x, e := s.Look(h); x.Writes != 1 || x.Reads != 1 || e != api.OK {
+					t.Errorf("Look = %+v, %d", x, e)
+				}
+				s.Cleanup()
+				if c := s.Told(); c.Active < 1 || c.Active > callers {
+					t.Errorf("Told = %+v", c)
+				}
 				if e := s.Abort(h); e != api.OK {
 					t.Errorf("Abort = %d", e)
 				}

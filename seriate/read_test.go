@@ -195,31 +195,3 @@ func TestSnapshotIsThatOfTheBegin(t *testing.T) {
 	wantNone(t, s, second, "y")
 	wantGet(t, s, third, "y", "3")
 }
-
-// Example 1 of the document, but for the marks.
-func TestReaderBesideAWriter(t *testing.T) {
-	s := newStore(t, greatest())
-	committed(t, s, put("x", "a"))
-	one, two := begin(t, s), begin(t, s)
-	wantGet(t, s, one, "x", "a")
-	wantWrite(t, s, two, api.OK, put("x", "b"))
-	wantGet(t, s, one, "x", "a")
-	wantCommit(t, s, two, api.OK)
-	wantGet(t, s, one, "x", "a")
-	wantWrite(t, s, one, api.ErrConflict, put("x", "c"))
-	wantGetErr(t, s, one, "x", api.ErrHandle)
-}
-
-// Example 2 of the document, but for the marks.
-func TestReaderThatWritesElsewhere(t *testing.T) {
-	s := newStore(t, greatest())
-	committed(t, s, put("x", "a"))
-	one, two := begin(t, s), begin(t, s)
-	wantGet(t, s, one, "x", "a")
-	wantWrite(t, s, two, api.OK, put("x", "b"))
-	wantCommit(t, s, two, api.OK)
-	wantGet(t, s, one, "x", "a")
-	wantWrite(t, s, one, api.OK, put("y", "c"))
-	wantCommit(t, s, one, api.OK)
-	wantScan(t, s, begin(t, s), "", "", "x", "b", "y", "c")
-}

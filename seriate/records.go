@@ -17,6 +17,26 @@ func (s *Store) active(h int) (*txn, bool) {
 	return t, known && t.isActive()
 }
 
+func (s *Store) begin() int {
+	s.begun++
+	t := newTxn(s.begun, s.clock)
+	s.txns[t.handle] = t
+	s.begins.add(t)
+	return t.handle
+}
+
+// read lets the entry join the reads of t, and marks whom it reads past.
+func (s *Store) read(t *txn, e entry) api.Errno {
+	if !s.joinReads(t, e) {
+		return api.ErrFull
+	}
+	if !s.passWriters(t, e) {
+		s.abort(t)
+		return api.ErrUnsafe
+	}
+	return api.OK
+}
+
 // joinReads lets the entry join the reads of t, and tells whether there was room for it.
 func (s *Store) joinReads(t *txn, e entry) bool {
 	if _, known := t.reads[e]; known {
@@ -117,6 +137,7 @@ func (s *Store) isNewer(t *txn, key string) bool {
 }
 
 func (s *Store) commit(t *txn) {
+	s.begins.remove(t)
 	s.clock++
 	t.commit = s.clock
 	for key, c := range t.writes {
@@ -124,4 +145,7 @@ func (s *Store) commit(t *txn) {
 	}
 }
 
-func (s *Store) abort(h int) { delete(s.txns, h) }
+func (s *Store) abort(t *txn) {
+	s.begins.remove(t)
+	delete(s.txns, t.handle)
+}

@@ -14,6 +14,7 @@ type Store struct {
 	clock    int
 	begun    int                  // how many Begins were answered OK: the last handle
 	txns     map[int]*txn         // by handle: those of which there is a record, active or kept
+	begins   heap                 // of the active ones
 	versions map[string][]version // by key: of each their Commits rise
 }
 
@@ -32,9 +33,7 @@ func (s *Store) Begin() (int, api.Errno) {
 	if len(s.txns) >= s.config.Txns {
 		return 0, api.ErrFull
 	}
-	s.begun++
-	s.txns[s.begun] = newTxn(s.clock)
-	return s.begun, api.OK
+	return s.begin(), api.OK
 }
 
 // Get reads a key (P5).
@@ -52,8 +51,8 @@ func (s *Store) Get(h int, key string) (string, bool, api.Errno) {
 		value, there := own.told()
 		return value, there, api.OK
 	}
-	if !s.joinReads(t, keyEntry(key)) {
-		return "", false, api.ErrFull
+	if e := s.read(t, keyEntry(key)); e != api.OK {
+		return "", false, e
 	}
 	value, there := s.snapshot(t, key).told()
 	return value, there, api.OK
@@ -71,8 +70,8 @@ func (s *Store) Scan(h int, lo string, hi string) ([]api.Pair, api.Errno) {
 		return nil, e
 	}
 	r := rangeEntry(lo, hi)
-	if !s.joinReads(t, r) {
-		return nil, api.ErrFull
+	if e := s.read(t, r); e != api.OK {
+		return nil, e
 	}
 	return s.pairs(t, r), api.OK
 }
@@ -92,8 +91,12 @@ func (s *Store) Write(h int, changes ...api.Change) api.Errno {
 		return api.ErrFull
 	}
 	if s.conflicts(t, changes) {
-		s.abort(h)
+		s.abort(t)
 		return api.ErrConflict
+	}
+	if !s.passReaders(t, changes) {
+		s.abort(t)
+		return api.ErrUnsafe
 	}
 	t.joinWrites(changes)
 	return api.OK
@@ -107,6 +110,10 @@ func (s *Store) Commit(h int) api.Errno {
 	if !active {
 		return api.ErrHandle
 	}
+	if t.in && t.out {
+		s.abort(t)
+		return api.ErrUnsafe
+	}
 	if s.countVersions()+len(t.writes) > s.config.Versions {
 		return api.ErrFull
 	}
@@ -118,21 +125,47 @@ func (s *Store) Commit(h int) api.Errno {
 func (s *Store) Abort(h int) api.Errno {
 	s.mutex.Lock()
 	defer s.mutex.Unlock()
-	if _, active := s.active(h); !active {
+	t, active := s.active(h)
+	if !active {
 		return api.ErrHandle
 	}
-	s.abort(h)
+	s.abort(t)
 	return api.OK
 }
 
 // Cleanup forgets what no transaction needs any more (P10).
-func (s *Store) Cleanup() {}
+func (s *Store) Cleanup() {
+	s.mutex.Lock()
+	defer s.mutex.Unlock()
+	mark := s.mark()
+	s.forgetRecords(mark)
+	s.dropVersions(mark)
+}
 
 // Look tells of an active transaction (P11).
-func (s *Store) Look(h int) (api.Txn, api.Errno) { return api.Txn{}, api.OK }
+func (s *Store) Look(h int) (api.Txn, api.Errno) {
+	s.mutex.Lock()
+	defer s.mutex.Unlock()
+	t, active := s.active(h)
+	if !active {
+		return api.Txn{}, api.ErrHandle
+	}
+	return api.Txn{Begin: t.begin, In: t.in, Out: t.out, Reads: len(t.reads), Writes: len(t.writes)}, api.OK
+}
 
 // Told counts (P11).
-func (s *Store) Told() api.Counts { return api.Counts{} }
+func (s *Store) Told() api.Counts {
+	s.mutex.Lock()
+	defer s.mutex.Unlock()
+	active := len(s.begins.list)
+	return api.Counts{
+		Clock:    s.clock,
+		Active:   active,
+		Kept:     len(s.txns) - active,
+		Reads:    s.countReads(),
+		Versions: s.countVersions(),
+	}
+}
 
 // Run lets clients run (P12, P13).
 func (s *Store) Run(programs [][]api.Ins, schedule []int) ([]api.Outcome, api.Errno) {

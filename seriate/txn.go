@@ -8,10 +8,13 @@ import (
 
 // txn: the record of a transaction.
 type txn struct {
-	begin  int
-	commit int                // 0 while it is active: the first Commit is 1
-	writes map[string]content // by key
-	reads  map[entry]struct{}
+	handle  int
+	begin   int
+	commit  int                // 0 while it is active: the first Commit is 1
+	writes  map[string]content // by key
+	reads   map[entry]struct{}
+	in, out bool
+	place   int // in the heap, while it is active
 }
 
 // content of a key: a value, or it is gone.
@@ -26,8 +29,8 @@ type entry struct {
 	lo, hi string
 }
 
-func newTxn(begin int) *txn {
-	return &txn{begin: begin, writes: map[string]content{}, reads: map[entry]struct{}{}}
+func newTxn(handle int, begin int) *txn {
+	return &txn{handle: handle, begin: begin, writes: map[string]content{}, reads: map[entry]struct{}{}}
 }
 
 func (t *txn) isActive() bool { return t.commit == 0 }
