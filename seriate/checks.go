@@ -34,3 +34,41 @@ func checkChanges(changes []api.Change) api.Errno {
 	}
 	return api.OK
 }
+
+func arePrograms(programs [][]api.Ins) bool {
+	if len(programs) > api.MaxPrograms {
+		return false
+	}
+	for _, p := range programs {
+		if !isProgram(p) {
+			return false
+		}
+	}
+	return true
+}
+
+func isProgram(p []api.Ins) bool {
+	if len(p) > api.MaxSteps {
+		return false
+	}
+	for _, i := range p {
+		if !isKind(i.Kind) || i.N < 0 || i.N > api.MaxSteps {
+			return false
+		}
+	}
+	return true
+}
+
+func isKind(kind int) bool { return api.Get <= kind && kind <= api.Abort }
+
+func isSchedule(schedule []int, programs int) bool {
+	if len(schedule) > api.MaxSchedule {
+		return false
+	}
+	for _, n := range schedule {
+		if n < 0 || n >= programs {
+			return false
+		}
+	}
+	return true
+}

@@ -7,7 +7,7 @@ import (
 
 // mark for cleaning up: what was committed up to it lies ahead of every
 // transaction that is active or still to come.
-func (s *Store) mark() int {
+func (s *state) mark() int {
 	if t, found := s.begins.top(); found {
 		return t.begin
 	}
@@ -15,14 +15,14 @@ func (s *Store) mark() int {
 }
 
 // forgetRecords forgets those that overlap no transaction any more.
-func (s *Store) forgetRecords(mark int) {
+func (s *state) forgetRecords(mark int) {
 	maps.DeleteFunc(s.txns, func(_ int, t *txn) bool {
 		return !t.isActive() && t.commit <= mark
 	})
 }
 
 // dropVersions drops those that no transaction sees any more.
-func (s *Store) dropVersions(mark int) {
+func (s *state) dropVersions(mark int) {
 	left := map[string][]version{}
 	for key, l := range s.versions {
 		if seen := l[firstSeen(l, mark):]; len(seen) > 0 {

@@ -15,10 +15,10 @@ func TestNothingIsKeptBehindItsUse(t *testing.T) {
 	h, _ = s.Begin()
 	s.Abort(h)
 	s.Cleanup()
-	if len(s.txns) != 0 || len(s.versions) != 0 {
-		t.Fatalf("kept: %v, %v", s.txns, s.versions)
+	if len(s.state.txns) != 0 || len(s.state.versions) != 0 {
+		t.Fatalf("kept: %v, %v", s.state.txns, s.state.versions)
 	}
-	for _, x := range s.begins.list[:cap(s.begins.list)] {
+	for _, x := range s.state.begins.list[:cap(s.state.begins.list)] {
 		if x != nil {
 			t.Fatalf("the heap still holds %+v", x)
 		}

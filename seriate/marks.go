@@ -19,7 +19,7 @@ func (t *txn) readPast(writer *txn) { t.out, writer.in = true, true }
 
 // passWriters marks that t reads past those that have written what the entry
 // covers. It tells whether that may be; if not, nothing is marked.
-func (s *Store) passWriters(t *txn, e entry) bool {
+func (s *state) passWriters(t *txn, e entry) bool {
 	writers := s.overlapping(t, func(other *txn) bool { return other.hasWritten(e) })
 	if slices.ContainsFunc(writers, isCommittedOut) {
 		return false
@@ -32,7 +32,7 @@ func (s *Store) passWriters(t *txn, e entry) bool {
 
 // passReaders marks that those that have read a changed key read past t. It
 // tells whether that may be; if not, nothing is marked.
-func (s *Store) passReaders(t *txn, changes []api.Change) bool {
+func (s *state) passReaders(t *txn, changes []api.Change) bool {
 	readers := s.overlapping(t, func(other *txn) bool { return other.hasRead(changes) })
 	if slices.ContainsFunc(readers, isCommittedIn) {
 		return false
@@ -48,7 +48,7 @@ func isCommittedOut(t *txn) bool { return !t.isActive() && t.out }
 func isCommittedIn(t *txn) bool { return !t.isActive() && t.in }
 
 // overlapping tells, in no order, the others that overlap t and are meant.
-func (s *Store) overlapping(t *txn, isMeant func(*txn) bool) []*txn {
+func (s *state) overlapping(t *txn, isMeant func(*txn) bool) []*txn {
 	var l []*txn
 	for _, other := range s.txns {
 		if other != t && t.overlaps(other) && isMeant(other) {

@@ -21,6 +21,7 @@ func TestEachCallTakesTheMutex(t *testing.T) {
 		"Cleanup": func() { s.Cleanup() },
 		"Look":    func() { s.Look(h) },
 		"Told":    func() { s.Told() },
+		"Run":     func() { s.Run(nil, nil) },
 	}
 	for name, call := range calls {
 		done := make(chan struct{})

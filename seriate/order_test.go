@@ -236,3 +236,56 @@ func oneCall(seed int64, s *seriate.Store, h int) (x told) {
 	}
 	return x
 }
+
+// span of a committed transaction, and the keys that it wrote.
+type span struct {
+	begin, commit int
+	keys          map[string]bool
+}
+
+func (a span) meets(b span) bool { return a.begin < b.commit && b.begin < a.commit }
+
+// P15: no two committed transactions that overlapped have written one key.
+func TestOverlappingOnesHaveWrittenApart(t *testing.T) {
+	met := 0
+	for seed := range int64(300) {
+		r := rand.New(rand.NewSource(seed))
+		s := newStore(t, greatest())
+		active := map[int]span{}
+		var done []span
+		for range 60 {
+			h, e := s.Begin()
+			if e == api.OK {
+				active[h] = span{begin: len(done), keys: map[string]bool{}}
+			}
+			live := slices.Sorted(maps.Keys(active))
+			h = live[r.Intn(len(live))]
+			key := modelKeys[r.Intn(6)]
+			if s.Write(h, put(key, "1")) != api.OK {
+				delete(active, h)
+				continue
+			}
+			active[h].keys[key] = true
+			if r.Intn(2) == 0 && s.Commit(h) == api.OK {
+				done = append(done, span{active[h].begin, len(done) + 1, active[h].keys})
+				delete(active, h)
+			}
+		}
+		for i, a := range done {
+			for _, b := range done[:i] {
+				if !a.meets(b) {
+					continue
+				}
+				met++
+				for key := range a.keys {
+					if b.keys[key] {
+						t.Fatalf("seed %d: %+v and %+v wrote %q", seed, a, b, key)
+					}
+				}
+			}
+		}
+	}
+	if met < 1000 {
+		t.Fatalf("only %d pairs overlapped", met)
+	}
+}

@@ -12,33 +12,25 @@ type version struct {
 	content
 }
 
-func (s *Store) active(h int) (*txn, bool) {
+func (s *state) active(h int) (*txn, bool) {
 	t, known := s.txns[h]
 	return t, known && t.isActive()
 }
 
-func (s *Store) begin() int {
-	s.begun++
-	t := newTxn(s.begun, s.clock)
-	s.txns[t.handle] = t
-	s.begins.add(t)
-	return t.handle
-}
-
 // read lets the entry join the reads of t, and marks whom it reads past.
-func (s *Store) read(t *txn, e entry) api.Errno {
+func (s *state) read(t *txn, e entry) api.Errno {
 	if !s.joinReads(t, e) {
 		return api.ErrFull
 	}
 	if !s.passWriters(t, e) {
-		s.abort(t)
+		s.discard(t)
 		return api.ErrUnsafe
 	}
 	return api.OK
 }
 
 // joinReads lets the entry join the reads of t, and tells whether there was room for it.
-func (s *Store) joinReads(t *txn, e entry) bool {
+func (s *state) joinReads(t *txn, e entry) bool {
 	if _, known := t.reads[e]; known {
 		return true
 	}
@@ -49,7 +41,7 @@ func (s *Store) joinReads(t *txn, e entry) bool {
 	return true
 }
 
-func (s *Store) countReads() int {
+func (s *state) countReads() int {
 	n := 0
 	for _, t := range s.txns {
 		n += len(t.reads)
@@ -57,7 +49,7 @@ func (s *Store) countReads() int {
 	return n
 }
 
-func (s *Store) countVersions() int {
+func (s *state) countVersions() int {
 	n := 0
 	for _, l := range s.versions {
 		n += len(l)
@@ -65,7 +57,7 @@ func (s *Store) countVersions() int {
 	return n
 }
 
-func (s *Store) snapshot(t *txn, key string) content {
+func (s *state) snapshot(t *txn, key string) content {
 	seen := content{gone: true}
 	for _, v := range s.versions[key] {
 		if v.commit <= t.begin {
@@ -76,7 +68,7 @@ func (s *Store) snapshot(t *txn, key string) content {
 }
 
 // pairs tells the keys of the range that are there for t.
-func (s *Store) pairs(t *txn, r entry) []api.Pair {
+func (s *state) pairs(t *txn, r entry) []api.Pair {
 	var l []api.Pair
 	for _, key := range s.keysIn(t, r) {
 		c, own := t.writes[key]
@@ -91,7 +83,7 @@ func (s *Store) pairs(t *txn, r entry) []api.Pair {
 }
 
 // keysIn tells, in their order, the keys of the range that have versions or that t has written.
-func (s *Store) keysIn(t *txn, r entry) []string {
+func (s *state) keysIn(t *txn, r entry) []string {
 	var keys []string
 	for key := range s.versions {
 		if r.covers(key) {
@@ -107,7 +99,7 @@ func (s *Store) keysIn(t *txn, r entry) []string {
 	return keys
 }
 
-func (s *Store) conflicts(t *txn, changes []api.Change) bool {
+func (s *state) conflicts(t *txn, changes []api.Change) bool {
 	for _, c := range changes {
 		if s.isHeld(t, c.Key) || s.isNewer(t, c.Key) {
 			return true
@@ -117,7 +109,7 @@ func (s *Store) conflicts(t *txn, changes []api.Change) bool {
 }
 
 // isHeld tells whether another active transaction has the key in its writes.
-func (s *Store) isHeld(t *txn, key string) bool {
+func (s *state) isHeld(t *txn, key string) bool {
 	for _, other := range s.txns {
 		if _, wrote := other.writes[key]; wrote && other != t && other.isActive() {
 			return true
@@ -127,7 +119,7 @@ func (s *Store) isHeld(t *txn, key string) bool {
 }
 
 // isNewer tells whether a version of the key was committed behind the Begin of t.
-func (s *Store) isNewer(t *txn, key string) bool {
+func (s *state) isNewer(t *txn, key string) bool {
 	for _, v := range s.versions[key] {
 		if v.commit > t.begin {
 			return true
@@ -136,7 +128,8 @@ func (s *Store) isNewer(t *txn, key string) bool {
 	return false
 }
 
-func (s *Store) commit(t *txn) {
+// publish commits t: its writes become versions.
+func (s *state) publish(t *txn) {
 	s.begins.remove(t)
 	s.clock++
 	t.commit = s.clock
@@ -145,7 +138,8 @@ func (s *Store) commit(t *txn) {
 	}
 }
 
-func (s *Store) abort(t *txn) {
+// discard aborts t: nothing of it is kept.
+func (s *state) discard(t *txn) {
 	s.begins.remove(t)
 	delete(s.txns, t.handle)
 }

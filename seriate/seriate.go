@@ -9,13 +9,8 @@ import (
 
 // Store of values by keys.
 type Store struct {
-	mutex    sync.Mutex
-	config   api.Config
-	clock    int
-	begun    int                  // how many Begins were answered OK: the last handle
-	txns     map[int]*txn         // by handle: those of which there is a record, active or kept
-	begins   heap                 // of the active ones
-	versions map[string][]version // by key: of each their Commits rise
+	mutex sync.Mutex
+	state state
 }
 
 // New makes a store (P3).
@@ -23,151 +18,83 @@ func New(c api.Config) (*Store, api.Errno) {
 	if !isConfig(c) {
 		return nil, api.ErrConfig
 	}
-	return &Store{config: c, txns: map[int]*txn{}, versions: map[string][]version{}}, api.OK
+	return &Store{state: newState(c)}, api.OK
 }
 
 // Begin begins a transaction (P4).
 func (s *Store) Begin() (int, api.Errno) {
 	s.mutex.Lock()
 	defer s.mutex.Unlock()
-	if len(s.txns) >= s.config.Txns {
-		return 0, api.ErrFull
-	}
-	return s.begin(), api.OK
+	return s.state.begin()
 }
 
 // Get reads a key (P5).
 func (s *Store) Get(h int, key string) (string, bool, api.Errno) {
 	s.mutex.Lock()
 	defer s.mutex.Unlock()
-	t, active := s.active(h)
-	if !active {
-		return "", false, api.ErrHandle
-	}
-	if !isKey(key) {
-		return "", false, api.ErrKey
-	}
-	if own, wrote := t.writes[key]; wrote {
-		value, there := own.told()
-		return value, there, api.OK
-	}
-	if e := s.read(t, keyEntry(key)); e != api.OK {
-		return "", false, e
-	}
-	value, there := s.snapshot(t, key).told()
-	return value, there, api.OK
+	return s.state.get(h, key)
 }
 
 // Scan reads a range (P6).
 func (s *Store) Scan(h int, lo string, hi string) ([]api.Pair, api.Errno) {
 	s.mutex.Lock()
 	defer s.mutex.Unlock()
-	t, active := s.active(h)
-	if !active {
-		return nil, api.ErrHandle
-	}
-	if e := checkRange(lo, hi); e != api.OK {
-		return nil, e
-	}
-	r := rangeEntry(lo, hi)
-	if e := s.read(t, r); e != api.OK {
-		return nil, e
-	}
-	return s.pairs(t, r), api.OK
+	return s.state.scan(h, lo, hi)
 }
 
 // Write changes keys (P7).
 func (s *Store) Write(h int, changes ...api.Change) api.Errno {
 	s.mutex.Lock()
 	defer s.mutex.Unlock()
-	t, active := s.active(h)
-	if !active {
-		return api.ErrHandle
-	}
-	if e := checkChanges(changes); e != api.OK {
-		return e
-	}
-	if t.keysWith(changes) > s.config.Writes {
-		return api.ErrFull
-	}
-	if s.conflicts(t, changes) {
-		s.abort(t)
-		return api.ErrConflict
-	}
-	if !s.passReaders(t, changes) {
-		s.abort(t)
-		return api.ErrUnsafe
-	}
-	t.joinWrites(changes)
-	return api.OK
+	return s.state.write(h, changes...)
 }
 
 // Commit commits a transaction (P8).
 func (s *Store) Commit(h int) api.Errno {
 	s.mutex.Lock()
 	defer s.mutex.Unlock()
-	t, active := s.active(h)
-	if !active {
-		return api.ErrHandle
-	}
-	if t.in && t.out {
-		s.abort(t)
-		return api.ErrUnsafe
-	}
-	if s.countVersions()+len(t.writes) > s.config.Versions {
-		return api.ErrFull
-	}
-	s.commit(t)
-	return api.OK
+	return s.state.commit(h)
 }
 
 // Abort aborts it (P9).
 func (s *Store) Abort(h int) api.Errno {
 	s.mutex.Lock()
 	defer s.mutex.Unlock()
-	t, active := s.active(h)
-	if !active {
-		return api.ErrHandle
-	}
-	s.abort(t)
-	return api.OK
+	return s.state.abort(h)
 }
 
 // Cleanup forgets what no transaction needs any more (P10).
 func (s *Store) Cleanup() {
 	s.mutex.Lock()
 	defer s.mutex.Unlock()
-	mark := s.mark()
-	s.forgetRecords(mark)
-	s.dropVersions(mark)
+	s.state.cleanup()
 }
 
 // Look tells of an active transaction (P11).
 func (s *Store) Look(h int) (api.Txn, api.Errno) {
 	s.mutex.Lock()
 	defer s.mutex.Unlock()
-	t, active := s.active(h)
-	if !active {
-		return api.Txn{}, api.ErrHandle
-	}
-	return api.Txn{Begin: t.begin, In: t.in, Out: t.out, Reads: len(t.reads), Writes: len(t.writes)}, api.OK
+	return s.state.look(h)
 }
 
 // Told counts (P11).
 func (s *Store) Told() api.Counts {
 	s.mutex.Lock()
 	defer s.mutex.Unlock()
-	active := len(s.begins.list)
-	return api.Counts{
-		Clock:    s.clock,
-		Active:   active,
-		Kept:     len(s.txns) - active,
-		Reads:    s.countReads(),
-		Versions: s.countVersions(),
-	}
+	return s.state.told()
 }
 
-// Run lets clients run (P12, P13).
+// Run lets clients run (P12, P13). Like every other call it is under the mutex
+// from its beginning to its end: nobody else's call comes between two turns, so
+// that what it answers hangs on the schedule alone.
 func (s *Store) Run(programs [][]api.Ins, schedule []int) ([]api.Outcome, api.Errno) {
-	return nil, api.OK
+	s.mutex.Lock()
+	defer s.mutex.Unlock()
+	if !arePrograms(programs) {
+		return nil, api.ErrProgram
+	}
+	if !isSchedule(schedule, len(programs)) {
+		return nil, api.ErrSchedule
+	}
+	return s.state.run(programs, schedule), api.OK
 }
